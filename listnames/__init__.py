@@ -1,0 +1,1 @@
+"""What short names mean: hosts, zones, and exact sets of short names."""

@@ -123,7 +123,7 @@ def parts_of(rows, blocks, states):
     """These states by their signs: their own blocks first, then those to which their steps lead."""
     found = {}
     for state in states:
-        sign = tuple([blocks[target] for target in [state, *rows[state]]])
+        sign = tuple([blocks[state]] + [blocks[target] for target in rows[state]])
         found.setdefault(sign, []).append(state)
     return found
 
@@ -149,7 +149,7 @@ def blocks_of(machine, most):
     """
     blocks = [1 if end == machine.ends[1] else 2 for end in machine.ends]
     blocks[0] = 0
-    sizes = [blocks.count(block) for block in sorted(set(blocks))]
+    sizes = [len([other for other in blocks if other == block]) for block in sorted(set(blocks))]
     sources = sources_of(machine.rows)
     touched = list(range(len(blocks)))
     while touched and len(sizes) <= most:

@@ -80,8 +80,8 @@ def folded(steps, ends):
     numbers = [0] * len(steps)
     places = {}
     for node in reversed(range(len(steps))):
-        further = [(label, numbers[child]) for label, child in steps[node].items()]
-        numbers[node] = places.setdefault((ends[node], *sorted(further)), len(places))
+        further = sorted([(label, numbers[child]) for label, child in steps[node].items()])
+        numbers[node] = places.setdefault((ends[node], *further), len(places))
     return numbers
 
 

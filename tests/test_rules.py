@@ -13,6 +13,8 @@ BUILTINS = """len range enumerate zip min max sum abs sorted reversed int str bo
     isinstance ord repr any all divmod pow getattr hasattr iter next map Exception ValueError TypeError KeyError
     IndexError LookupError ZeroDivisionError ArithmeticError OverflowError RuntimeError NotImplementedError
     AttributeError StopIteration NotImplemented property True False None""".split()
+# An interactive Python, and a doctest, add _ to its builtins.
+PYTHONS = [word for word in dir(builtins) if word != "_"]
 METHODS = """append clear copy count endswith extend find get index insert isalnum isalpha isdigit islower isspace isupper
     items join keys ljust lower lstrip partition pop remove replace reverse rfind rjust rpartition rsplit rstrip
     setdefault split splitlines startswith strip update upper values zfill bit_length add discard""".split()
@@ -132,8 +134,9 @@ class TestRules(unittest.TestCase):
             for node in ast.walk(tree):
                 if isinstance(node, ast.FunctionDef):
                     for word in bound_in(node):
-                        self.assertNotIn(word, imported + classes + dir(builtins) + WORDS_BARRED, (name, node.name))
-                if isinstance(node, ast.Name) and hasattr(builtins, node.id):
+                        self.assertFalse(word in imported + classes + WORDS_BARRED, (name, node.name, word))
+                        self.assertNotIn(word, PYTHONS, (name, node.name))
+                if isinstance(node, ast.Name) and node.id in PYTHONS:
                     self.assertIn(node.id, BUILTINS, (name, node.lineno))
 
     def test_attributes(self):

@@ -21,7 +21,7 @@ def odd_values():
     """Values that are no label, no name, no number up to a million, no list or dict of such and no part of a zone."""
     return [
         None, True, False, -1, 10 ** 39, -(10 ** 40 - 1), "", "A", "a b", "a-b", "abcdefghi", "a\n", "\t", "~",
-        b"", b"a", ["a"], [[]], {"a": 1}, {(): 0}, ("a", 1), ("a", None), ("a", ""), ("a", "B"), (("a",),), (["a"],),
+        b"", b"a", ["a"], [[]], {"a": 1}, {(): 0}, ("a", 1), ("a", None), ("a", ""), ("a", "B"), ((("a",),),), (["a"],),
         ({},), ("a", ("b",)), {"a"}, frozenset(["a"]), object(), len, Wrong, Wrong(0), ValueError(), deep(list),
         deep(tuple), deep(lambda parts: dict(enumerate(parts))), [0] * 19000, ("a", 0) * 9000, "a" * 19000,
         Zone({("a",): 1}), Host([("a",)]), Facts([], []), every(), every, Zone,

@@ -1,0 +1,15 @@
+"""The examples in README.md."""
+
+import doctest
+import os
+import unittest
+
+README = os.path.join(os.path.dirname(os.path.dirname(os.path.abspath(__file__))), "README.md")
+
+
+class TestReadme(unittest.TestCase):
+
+    def test_examples(self):
+        failed, tried = doctest.testfile(README, module_relative=False)
+        self.assertEqual(failed, 0)
+        self.assertGreater(tried, 10)

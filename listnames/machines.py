@@ -159,6 +159,7 @@ def blocks_of(machine, most):
             for state in part:
                 blocks[state] = len(sizes)
             sizes.append(len(part))
+        # All others still lead to the same blocks as those beside them in their own block.
         touched = sorted({source for part in moving for state in part for source in sources[state]})
     return blocks
 

@@ -1,0 +1,68 @@
+"""The interface of the files that there are: names, arguments, and where each thing is defined."""
+
+import importlib
+import inspect
+import unittest
+
+FUNCTIONS = {
+    "kinds": ["is_integer(thing)", "is_label(thing)", "is_name(thing)", "is_full(thing)", "is_value(thing)",
+              "is_moment(thing)", "is_number(many, thing)"],
+    "names": ["is_under(name, top)", "is_beneath(name, top)", "tops(name)", "ray_end(name, many)", "root(name)",
+              "least_label(names)"],
+    "hosts": ["devolved(name, least)"],
+    "changes": ["who_can(host, name)", "taken_over(host, zone, name)", "hidden(host, zone, name)"],
+    "shorts": ["every()", "only(names)", "ending(name)", "ray(name)", "longer(many)", "over(labels)"],
+}
+CLASSES = {
+    ("zones", "Zone(values)"): ["take(name)", "names()", "under(top)", "state(name)", "copied()"],
+    ("hosts", "Host(suffixes, *, dots=None, stops=False)"): [
+        "suffixes()", "candidates(short)", "entries(short)", "looked(zone, short)", "with_suffixes(suffixes)"],
+    ("facts", "Facts(sure, barred)"): ["sure()", "barred()", "fits(zone)", "can_be(name)", "must_be(name)", "zone()",
+                                       "with_barred(names)"],
+    ("shorts", "Shorts"): ["labels()", "least()", "longest()", "count(many, labels)", "members(many, labels)",
+                           "within(other)", "missing(other)"],
+}
+SIGNS = {
+    ("zones", "Zone"): "eq len contains getitem setitem or and sub ior",
+    ("hosts", "Host"): "eq len contains getitem call",
+    ("shorts", "Shorts"): "eq contains len bool and or sub xor invert floordiv add",
+    ("facts", "Facts"): "eq",
+}
+
+
+def module(name):
+    return importlib.import_module("listnames." + name)
+
+
+def written(name, thing, left_out=()):
+    """A name with its arguments, as the document writes them."""
+    given = inspect.signature(thing)
+    kept = [one for one in given.parameters.values() if one.name not in left_out]
+    return name + str(given.replace(parameters=kept))
+
+
+class TestInterface(unittest.TestCase):
+
+    def test_functions(self):
+        for name, lines in FUNCTIONS.items():
+            for line in lines:
+                word = line.partition("(")[0]
+                thing = getattr(module(name), word)
+                self.assertEqual(written(word, thing), line)
+                self.assertEqual(thing.__module__, "listnames." + name)
+
+    def test_classes(self):
+        for (name, line), methods in CLASSES.items():
+            word = line.partition("(")[0]
+            thing = getattr(module(name), word)
+            self.assertEqual(thing.__module__, "listnames." + name)
+            if "(" in line:
+                self.assertEqual(written(word, thing), line)
+            for method in methods:
+                key = method.partition("(")[0]
+                self.assertEqual(written(key, vars(thing)[key], ["self"]), method)
+
+    def test_signs(self):
+        for (name, word), signs in SIGNS.items():
+            for sign in signs.split():
+                self.assertIn(f"__{sign}__", vars(getattr(module(name), word)))

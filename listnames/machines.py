@@ -44,8 +44,8 @@ def paired_columns(one, other):
     return columns, list(places)
 
 
-def joined(one, other, table):
-    """The machine that has both at once; the table tells what is an end: of none, the other, the one, both."""
+def paired(one, other):
+    """Columns, rows and pairs of states of the machine that has two machines at once."""
     columns, pairs = paired_columns(one.columns, other.columns)
     places = {(0, 0): 0}
     order = [(0, 0)]
@@ -60,8 +60,13 @@ def joined(one, other, table):
                 order.append(pair)
             row.append(places[pair])
         rows.append(row)
-    ends = [table[2 * one.ends[state] + other.ends[second]] for state, second in order]
-    return Machine(columns, rows, ends)
+    return columns, rows, order
+
+
+def joined(one, other, table):
+    """The machine that has both at once; the table tells what is an end: of none, the other, the one, both."""
+    columns, rows, pairs = paired(one, other)
+    return Machine(columns, rows, [table[2 * one.ends[state] + other.ends[second]] for state, second in pairs])
 
 
 def others(machine):

@@ -109,3 +109,8 @@ def with_name(zone, name):
     further = zone.copied()
     further._values[name] = 0
     return further
+
+
+def told_of(zone, name):
+    """The state of a full name in a zone, and its value, None if it is not found."""
+    return (zone.state(name), zone[name] if name in zone else None)

@@ -3,6 +3,7 @@
 import unittest
 from itertools import permutations, product
 
+from byhand import answer_by_hand, candidates_by_hand
 from listnames.errors import NoEntry, Wrong
 from listnames.hosts import Host, devolved
 from listnames.zones import Zone
@@ -10,22 +11,6 @@ from things import odd_values, shorts_upto
 
 LAB, HOUSE, LONG = ("lab",), ("house",), ("lab", "house", "end")
 SUFFIXES = [LAB, ("lab", "house"), LONG, HOUSE, ("end",)]
-
-
-def candidates_by_hand(suffixes, dots, short):
-    found = [short + suffix for suffix in suffixes]
-    if dots is None:
-        return found
-    return [short] + found if len(short) > dots else found + [short]
-
-
-def answer_by_hand(host, zone, short):
-    for name in host.candidates(short):
-        if name in zone:
-            return (name, zone[name])
-        if host.stops and any(full[-len(name):] == name for full in zone.names()):
-            return None
-    return None
 
 
 class TestMaking(unittest.TestCase):

@@ -12,6 +12,14 @@ FUNCTIONS = {
     "hosts": ["devolved(name, least)"],
     "changes": ["who_can(host, name)", "taken_over(host, zone, name)", "hidden(host, zone, name)"],
     "shorts": ["every()", "only(names)", "ending(name)", "ray(name)", "longer(many)", "over(labels)"],
+    "rows": ["reduced(host, facts, short)", "answers(host, facts, short)", "zone_for(host, facts, short, name)"],
+    "patterns": ["stays(host, facts, entry)", "patterns(host, facts)"],
+    "agree": ["agreed(one, other, facts)", "are_alike(one, other, facts, typed)", "parting(one, other, facts, typed)",
+              "is_parting(one, other, facts, typed, thing)", "rays_agreed(one, other)"],
+    "needs": ["needed(host, facts, typed)", "least_host(host, facts, typed)",
+              "is_needed_paper(host, facts, typed, thing)"],
+    "bars": ["bars(one, other, facts, typed, names)", "bars_paper(one, other, facts, typed, names)",
+             "is_bars_paper(one, other, facts, typed, names, goods, bads)"],
 }
 CLASSES = {
     ("zones", "Zone(values)"): ["take(name)", "names()", "under(top)", "state(name)", "copied()"],
@@ -21,12 +29,20 @@ CLASSES = {
                                        "with_barred(names)"],
     ("shorts", "Shorts"): ["labels()", "least()", "longest()", "count(many, labels)", "members(many, labels)",
                            "within(other)", "missing(other)"],
+    ("towns", "Town(keepers, houses)"): ["keepers()", "houses()", "host(house)", "road(house, name)", "ages(house, name)",
+                                         "with_keep(keeper, kind, number)"],
+    ("histories", "History(zone, changes)"): ["changes()", "zone_at(moment)", "spans(name)", "then(moment, change)"],
+    ("nets", "Net(zone, town, *, moment=0)"): ["step(thing)", "back()", "moment()", "zone()", "history()", "run()",
+                                               "kept()", "asked(keeper, name)", "copied()"],
 }
 SIGNS = {
     ("zones", "Zone"): "eq len contains getitem setitem or and sub ior",
     ("hosts", "Host"): "eq len contains getitem call",
     ("shorts", "Shorts"): "eq contains len bool and or sub xor invert floordiv add",
     ("facts", "Facts"): "eq",
+    ("towns", "Town"): "eq",
+    ("histories", "History"): "eq len",
+    ("nets", "Net"): "eq len",
 }
 
 

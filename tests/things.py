@@ -4,9 +4,14 @@ from itertools import product
 
 from listnames.errors import Wrong
 from listnames.facts import Facts
+from listnames.histories import History
 from listnames.hosts import Host
+from listnames.nets import Net
 from listnames.shorts import every
+from listnames.towns import Town
 from listnames.zones import Zone
+
+TOWN = Town([(1, 2, {(): None})], [(Host([("a",)]), 0)])
 
 
 def deep(make):
@@ -24,7 +29,8 @@ def odd_values():
         b"", b"a", ["a"], [[]], {"a": 1}, {(): 0}, ("a", 1), ("a", None), ("a", ""), ("a", "B"), ((("a",),),), (["a"],),
         ({},), ("a", ("b",)), {"a"}, frozenset(["a"]), object(), len, Wrong, Wrong(0), ValueError(), deep(list),
         deep(tuple), deep(lambda parts: dict(enumerate(parts))), [0] * 19000, ("a", 0) * 9000, "a" * 19000,
-        Zone({("a",): 1}), Host([("a",)]), Facts([], []), every(), every, Zone,
+        Zone({("a",): 1}), Host([("a",)]), Facts([], []), every(), every, Zone, TOWN, History(Zone({}), []),
+        Net(Zone({}), TOWN),
     ]
 
 
@@ -36,3 +42,16 @@ def names_upto(many, labels):
 def shorts_upto(many, labels):
     """All short names of at most so many labels, ascending."""
     return names_upto(many, labels)[1:]
+
+
+def spoilt(thing):
+    """What differs from a list or a tuple in one place, at any depth: a part is another value, twice or left out."""
+    if not isinstance(thing, (list, tuple)):
+        return [None, True, -1, "a", ("zz",), [("zz",)], (thing,), [thing]]
+    make = type(thing)
+    parts = list(thing)
+    found = [tuple(parts) if make is list else parts, make(parts + parts[:1]), make(parts[::-1])]
+    for at, part in enumerate(parts):
+        found.append(make(parts[:at] + parts[at + 1:]))
+        found.extend(make(parts[:at] + [other] + parts[at + 1:]) for other in spoilt(part))
+    return [other for other in found if not (type(other) is make and other == thing)]

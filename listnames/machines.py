@@ -10,7 +10,10 @@ MOST_CLASSES = 500
 
 
 class Machine:
-    """Columns, a dict from labels; rows, lists of states; ends, for each state whether what was read is a member."""
+    """Columns, a dict from labels; rows, lists of states; ends, for each state whether what was read is a member.
+
+    The machines of hosts (readers.py) have as ends what else is to be told of what was read.
+    """
 
     def __init__(self, columns, rows, ends):
         self.columns = columns

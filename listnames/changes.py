@@ -13,14 +13,19 @@ def who_can(host, name):
     return sorted(found, key=len)
 
 
+def shorts_near(host, names):
+    """The short names, ascending, of which a candidate is one of some full names, or a name that one is beneath."""
+    near = sorted(set([top for name in names for top in tops(name)[:-1]]))
+    return [short for _, short in sorted({(len(short), short) for top in near for short in who_can(host, top)})]
+
+
 def answers_around(host, zone, name):
     """The tuples (short name, answer, answer with the name put), ascending, for all whose answer it can change."""
     if name in zone:
         raise There(name)
     further = with_name(zone, name)
     # A name that is put can make the names that it is beneath empty, and so stop a host at them.
-    near = sorted({(len(short), short) for top in tops(name)[:-1] for short in who_can(host, top)})
-    return [(short, host(zone, short), host(further, short)) for _, short in near]
+    return [(short, host(zone, short), host(further, short)) for short in shorts_near(host, [name])]
 
 
 def taken_over(host, zone, name):

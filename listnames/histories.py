@@ -2,6 +2,7 @@
 
 from listnames.errors import BadChange, Wrong
 from listnames.kinds import is_full, is_moment, is_value
+from listnames.names import is_under
 from listnames.zones import MOST_NAMES, Zone, told_of
 
 MOST_CHANGES = 40
@@ -35,6 +36,11 @@ def changed_zone(zone, change):
     return further
 
 
+def can_touch(change, name):
+    """Whether a change can make a full name another state, or give it another value."""
+    return change[0] != "stay" and is_under(change[1], name)
+
+
 def are_changes(thing):
     """Whether a thing is a list or a tuple of changes with their moments."""
     if not isinstance(thing, (list, tuple)) or len(thing) > MOST_CHANGES:
@@ -53,13 +59,18 @@ class History:
             raise Wrong(1)
         self._changes = []
         self._zones = [zone.copied()]
-        for at, (moment, change) in enumerate(changes):
-            if self._changes and moment <= self._changes[-1][0]:
-                raise BadChange(at)
-            if not can_change(self._zones[-1], change):
-                raise BadChange(at)
-            self._changes.append((moment, change))
-            self._zones.append(changed_zone(self._zones[-1], change))
+        for moment, change in changes:
+            self._follow(moment, change)
+
+    def _follow(self, moment, change):
+        """Add a change, or refuse it."""
+        at = len(self._changes)
+        if at > 0 and moment <= self._changes[-1][0]:
+            raise BadChange(at)
+        if not can_change(self._zones[-1], change):
+            raise BadChange(at)
+        self._changes.append((moment, change))
+        self._zones.append(changed_zone(self._zones[-1], change))
 
     def __eq__(self, other):
         return (isinstance(other, History) and self._zones[0] == other._zones[0]
@@ -79,7 +90,9 @@ class History:
     def spans(self, name):
         """The tuples (state, value, first moment, last moment) of a full name, in order."""
         found = [(*told_of(self._zones[0], name), None)]
-        for (moment, _), zone in zip(self._changes, self._zones[1:]):
+        for (moment, change), zone in zip(self._changes, self._zones[1:]):
+            if not can_touch(change, name):
+                continue
             told = told_of(zone, name)
             if told != found[-1][:2]:
                 found.append((*told, moment))
@@ -94,4 +107,13 @@ class History:
             raise Wrong(1)
         if len(self._changes) == MOST_CHANGES:
             raise BadChange(MOST_CHANGES)
-        return History(self._zones[0], [*self._changes, (moment, change)])
+        further = self.moved([at for at, _ in self._changes])
+        further._follow(moment, change)
+        return further
+
+    def moved(self, moments):
+        """The history of its first changes, as many as there are moments, at these, whatever their size."""
+        other = History(self._zones[0], [])
+        other._changes = [(moment, change) for moment, (_, change) in zip(moments, self._changes)]
+        other._zones = self._zones[:len(moments) + 1]
+        return other

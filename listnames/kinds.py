@@ -32,6 +32,13 @@ def is_value(thing):
     return is_number(GREATEST_VALUE + 1, thing)
 
 
+def is_answer(thing):
+    """Whether a thing is an answer: a full name with a value, or None."""
+    if thing is None:
+        return True
+    return isinstance(thing, tuple) and len(thing) == 2 and is_full(thing[0]) and is_value(thing[1])
+
+
 def is_moment(thing):
     """Whether a thing is a moment at which something may be done."""
     return is_integer(thing) and -GREATEST_MOMENT <= thing <= GREATEST_MOMENT

@@ -3,8 +3,9 @@
 from listnames.errors import Late, NoStep, Nothing, Wrong
 from listnames.histories import MOST_CHANGES, History, can_change, is_change, changed_zone
 from listnames.kinds import GREATEST_MOMENT, is_full, is_moment, is_number
+from listnames.memories import Memory
 from listnames.towns import Town
-from listnames.zones import Zone, told_of
+from listnames.zones import Zone
 
 LONGEST_WAIT = 1000000
 
@@ -40,8 +41,7 @@ class Net:
         self._moment = moment
         self._zone = self._first
         self._changes = []
-        # What each keeper was told last of each name, (state, value, moment), whether it would still tell it or not.
-        self._kept = {}
+        self._memory = Memory(town)
         # Whether something was done at this moment ahead of which a change would have to come.
         self._busy = False
         self._run = []
@@ -71,48 +71,13 @@ class Net:
         """The steps that were done."""
         return list(self._run)
 
-    def _is_kept(self, keeper, told):
-        """Whether a keeper would still tell what it was told."""
-        return told[2] >= self._moment - self._town.keep(keeper, told[0])
-
     def kept(self):
         """The tuples (keeper, name, state, value, since), ascending, for what keepers would still tell."""
-        return [(*key, *self._kept[key]) for key in sorted(list(self._kept)) if self._is_kept(key[0], self._kept[key])]
-
-    def _heard(self, keeper, name):
-        """What a keeper tells of a full name, and the keepers that are told it on the way."""
-        asking = []
-        for at in self._town.road_from(keeper, name):
-            told = self._kept.get((at, name))
-            if told is not None and self._is_kept(at, told):
-                return told[:2], asking
-            asking.append(at)
-        return told_of(self._zone, name), asking
+        return self._memory.kept_at(self._moment)
 
     def asked(self, keeper, name):
         """What a keeper would tell of a full name."""
-        return self._heard(keeper, name)[0]
-
-    def _ask(self, keeper, name):
-        """Ask a keeper for a full name; return what it tells, and what was kept ahead of it."""
-        told, asking = self._heard(keeper, name)
-        ahead = [((at, name), self._kept.get((at, name))) for at in asking]
-        for at in asking:
-            self._kept[(at, name)] = (*told, self._moment)
-        return told, ahead
-
-    def _complete(self, house, short):
-        """Ask for the candidates of a short name; return the answer, and what was kept ahead of it."""
-        host, keeper = self._town.houses()[house]
-        ahead = []
-        for name in host.candidates(short):
-            (state, value), further = self._ask(keeper, name)
-            ahead.extend(further)
-            if state == "found":
-                return (name, value), ahead
-            if state == "empty" and host.stops:
-                break
-        return None, ahead
+        return self._memory.heard(keeper, name, self._moment, self._zone)[0]
 
     def _refuse(self, thing):
         """Refuse what is no step, and a step that cannot be done now."""
@@ -136,9 +101,9 @@ class Net:
         if thing[0] == "wait":
             self._moment = self._moment + thing[1]
         elif thing[0] == "ask":
-            told, ahead = self._ask(thing[1], thing[2])
+            told, ahead = self._memory.ask(thing[1], thing[2], self._moment, self._zone)
         elif thing[0] == "short":
-            told, ahead = self._complete(thing[1], thing[2])
+            told, ahead = self._memory.complete(thing[1], thing[2], self._moment, self._zone)
         else:
             self._changes.append((self._moment, thing))
             self._zone = changed_zone(self._zone, thing)
@@ -152,14 +117,10 @@ class Net:
         if not self._run:
             raise Nothing()
         thing = self._run.pop()
-        self._moment, self._zone, self._busy, kept = self._ahead.pop()
+        self._moment, self._zone, self._busy, ahead = self._ahead.pop()
         if is_change(thing):
             self._changes.pop()
-        for key, told in kept:
-            if told is None:
-                del self._kept[key]
-            else:
-                self._kept[key] = told
+        self._memory.take_back(ahead)
         return thing
 
     def copied(self):
@@ -167,7 +128,7 @@ class Net:
         other = Net(self._first, self._town, moment=self._start)
         other._moment, other._zone, other._busy = self._moment, self._zone, self._busy
         other._changes = list(self._changes)
-        other._kept = {key: self._kept[key] for key in self._kept}
+        other._memory = self._memory.copied()
         other._run = list(self._run)
         other._ahead = list(self._ahead)
         return other

@@ -101,7 +101,9 @@ class Zone:
 
     def copied(self):
         """An equal zone of its own."""
-        return Zone(self._values)
+        other = Zone({})
+        other._values = {name: self._values[name] for name in self._values}
+        return other
 
 
 def with_name(zone, name):

@@ -7,6 +7,7 @@ from listnames.errors import BadChange, Wrong
 from listnames.histories import History
 from listnames.zones import Zone
 from things import odd_values, shorts_upto
+from townsbyhand import drawn_history
 
 A, B, AB, BA = ("a",), ("b",), ("a", "b"), ("b", "a")
 STAY = ("stay",)
@@ -16,27 +17,6 @@ LEAST, GREATEST = -1000000, 1000000
 def letters(many):
     """So many names."""
     return [("n" + first + second,) for first in "ab" for second in "abcdefghijklmnopqrstuvwxyz"][:many]
-
-
-def drawn_history(random, many):
-    """A zone, changes at moments that can be done, and the values of the zone behind any number of them."""
-    names = shorts_upto(3, "ab")
-    values = {name: random.randrange(3) for name in random.sample(names, random.randint(0, 4))}
-    zone, changes, stood, moment = Zone(values), [], [dict(values)], random.randint(-20, 0)
-    for _ in range(many):
-        moment += random.choice([1, 1, 2, 5])
-        kind = random.choice(["put", "put", "take", "stay"])
-        if kind == "put":
-            change = ("put", random.choice(names[:6]), random.randrange(3))
-            values[change[1]] = change[2]
-        elif kind == "take" and values:
-            change = ("take", random.choice(sorted(values)))
-            del values[change[1]]
-        else:
-            change = STAY
-        changes.append((moment, change))
-        stood.append(dict(values))
-    return zone, changes, stood
 
 
 class TestMaking(unittest.TestCase):

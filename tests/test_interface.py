@@ -20,6 +20,20 @@ FUNCTIONS = {
               "is_needed_paper(host, facts, typed, thing)"],
     "bars": ["bars(one, other, facts, typed, names)", "bars_paper(one, other, facts, typed, names)",
              "is_bars_paper(one, other, facts, typed, names, goods, bads)"],
+    "windows": ["window(town, house, history, name, moment)", "told(town, house, history, short, moment)",
+                "settled(town, house, history, short)"],
+    "scripts": ["played(town, house, history, askings, short, moment)",
+                "askings_for(town, house, history, short, moment, answer)",
+                "is_askings_for(town, house, history, short, moment, answer, thing)"],
+    "strange": ["strange(town, house, history, short)", "strange_short(town, house, history)",
+                "stale(town, house, history, short)"],
+    "plans": ["is_demand(town, thing)", "honest(plan, town, house, short)"],
+    "waits": ["keeps(town, plan, demands, times)", "harm(town, plan, demands, times)", "least_times(town, plan, demands)",
+              "waits_paper(town, plan, demands)", "is_waits_paper(town, plan, demands, times, thing)"],
+    "keeps": ["greatest_keep(town, plan, demands, times, keeper, kind)", "greatest_keeps(town, plan, demands, times)"],
+    "notation": ["show_name(name)", "show_host(host)", "show_zone(zone)", "show_change(change)", "show_demand(demand)",
+                 "show_town(town)", "read_name(text)", "read_host(text)", "read_zone(text)", "read_change(text)",
+                 "read_demand(text)", "read_town(text)"],
 }
 CLASSES = {
     ("zones", "Zone(values)"): ["take(name)", "names()", "under(top)", "state(name)", "copied()"],
@@ -34,6 +48,10 @@ CLASSES = {
     ("histories", "History(zone, changes)"): ["changes()", "zone_at(moment)", "spans(name)", "then(moment, change)"],
     ("nets", "Net(zone, town, *, moment=0)"): ["step(thing)", "back()", "moment()", "zone()", "history()", "run()",
                                                "kept()", "asked(keeper, name)", "copied()"],
+    ("plans", "Plan(zone, changes)"): ["changes()", "zone_behind(many)", "history(times)"],
+    ("book", "Book(town, plan)"): ["do(deed)", "back()", "again()", "plan()", "demands()", "times()", "log()", "until(many)",
+                                   "copied()", "tried(deeds)", "block(act)"],
+    ("desk", "Desk(town, plan)"): ["execute(line)"],
 }
 SIGNS = {
     ("zones", "Zone"): "eq len contains getitem setitem or and sub ior",
@@ -43,6 +61,8 @@ SIGNS = {
     ("towns", "Town"): "eq",
     ("histories", "History"): "eq len",
     ("nets", "Net"): "eq len",
+    ("plans", "Plan"): "eq len",
+    ("book", "Book"): "eq len getitem setitem",
 }
 
 

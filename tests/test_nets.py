@@ -4,7 +4,6 @@ import doctest
 import unittest
 from random import Random
 
-from byhand import candidates_by_hand, ends_with
 from listnames.errors import Late, Nothing, NoStep, Wrong
 from listnames.histories import History
 from listnames.hosts import Host
@@ -12,6 +11,7 @@ from listnames.nets import Net
 from listnames.towns import Town
 from listnames.zones import Zone
 from things import odd_values, shorts_upto
+from townsbyhand import PlainNet, drawn_town
 
 EXAMPLE = """
 >>> from listnames.hosts import Host
@@ -33,96 +33,6 @@ STAY = ("stay",)
 GREATEST = 1000000
 NAMES = shorts_upto(3, "ab")
 PLAIN = Town([(3, 1, {(): None})], [(Host([A]), 0)])
-
-
-class PlainNet:
-    """The definition of keepers, walked plainly; it knows, too, at which moment what is told was so."""
-
-    def __init__(self, values, keepers, houses, moment):
-        self.values, self.keepers, self.houses, self.moment = dict(values), keepers, houses, moment
-        self.memory, self.last, self.done = {}, None, 0
-
-    def so(self, name):
-        if name in self.values:
-            return ("found", self.values[name])
-        return ("empty" if any(ends_with(full, name) for full in self.values) else "lost", None)
-
-    def tell(self, keeper, name):
-        """What a keeper tells, and the moment at which it was so; it keeps this."""
-        if (keeper, name) in self.memory:
-            told, since, was = self.memory[keeper, name]
-            number = self.keepers[keeper][0 if told[0] == "found" else 1]
-            if since >= self.moment - number:
-                return told, was
-        table = self.keepers[keeper][2]
-        lead = table[max([top for top in table if ends_with(name, top)], key=len)]
-        told, was = (self.so(name), self.moment) if lead is None else self.tell(lead, name)
-        self.memory[keeper, name] = (told, self.moment, was)
-        return told, was
-
-    def refusal(self, step):
-        """The error class of a step of a right form, or None."""
-        if step[0] == "wait":
-            return NoStep if self.moment + step[1] > GREATEST else None
-        if step[0] in ("ask", "short"):
-            return None
-        if self.done == 40:
-            return NoStep
-        if self.last == self.moment:
-            return Late
-        many = len(self.values) + (step[0] == "put" and step[1] not in self.values)
-        return NoStep if many > 30 or (step[0] == "take" and step[1] not in self.values) else None
-
-    def step(self, step):
-        """What a step returns that is not refused, and the tuples (name, told, was) of what the asker was told."""
-        if step[0] == "wait":
-            self.moment += step[1]
-            return None, []
-        self.last = self.moment
-        if step[0] == "ask":
-            told, was = self.tell(step[1], step[2])
-            return told, [(step[2], told, was)]
-        if step[0] == "short":
-            return self.complete(*self.houses[step[1]], step[2])
-        self.done += 1
-        if step[0] == "put":
-            self.values[step[1]] = step[2]
-        elif step[0] == "take":
-            del self.values[step[1]]
-        return None, []
-
-    def complete(self, host, first, short):
-        heard = []
-        for name in candidates_by_hand(host.suffixes(), host.dots, short):
-            told, was = self.tell(first, name)
-            heard.append((name, told, was))
-            if told[0] == "found":
-                return (name, told[1]), heard
-            if told[0] == "empty" and host.stops:
-                return None, heard
-        return None, heard
-
-    def kept(self):
-        found = []
-        for (keeper, name), (told, since, _) in self.memory.items():
-            if self.moment - since <= self.keepers[keeper][told[0] != "found"]:
-                found.append((keeper, name, *told, since))
-        return sorted(found)
-
-
-def drawn_town(random):
-    """Keepers in a row or with tables that part, and houses of all kinds of hosts."""
-    many = random.randint(1, 6)
-    keepers = []
-    for at in range(many):
-        table = {(): at + 1 if at + 1 < many else None}
-        if random.random() < 0.6:
-            for _ in range(random.randint(1, 4)):
-                table[random.choice([(), A, B, AB, ("b", "b")])] = random.choice([None, *range(at + 1, many)])
-        keepers.append((random.choice([0, 1, 3, 8]), random.choice([0, 1, 2, 5]), table))
-    hosts = [Host([A, B]), Host([B, A], stops=True), Host([AB, B], dots=1, stops=True), Host([], dots=0), Host([])]
-    houses = [(random.choice(hosts), random.randrange(many)) for _ in range(random.randint(1, 4))]
-    return keepers, houses
 
 
 def drawn_step(random, net):

@@ -109,7 +109,11 @@ class TestRules(unittest.TestCase):
             self.assertIsInstance(node, STATEMENTS, (name, node.lineno))
         for name, node in self.each(BARRED):
             self.assertTrue(isinstance(node, ast.Starred) and isinstance(node.value, (ast.Name, ast.Subscript,
-                            ast.Attribute, ast.Call)), (name, node.lineno))
+                            ast.Attribute, ast.Call, ast.ListComp)), (name, node.lineno))
+        for name, node in self.each(ast.Call):
+            for given in node.args:
+                if isinstance(given, ast.Starred):
+                    self.assertIsInstance(given.value, (ast.Name, ast.Attribute), (name, node.lineno))
         for name, node in self.each(ast.Constant):
             self.assertNotIsInstance(node.value, float, name)
         for name, node in self.each(ast.Compare):

@@ -3,11 +3,11 @@
 import unittest
 from random import Random
 
-from byhand import ends_with
 from listnames.errors import NoHouse, Wrong
 from listnames.hosts import Host
 from listnames.towns import Town
 from things import odd_values, shorts_upto
+from townsbyhand import road_by_hand
 
 A, B, AB, ABC = ("a",), ("b",), ("a", "b"), ("a", "b", "c")
 HOST = Host([A])
@@ -25,16 +25,6 @@ def drawn_keepers(random, many):
             table[name] = random.choice([None, *range(at + 1, many)])
         found.append((random.choice([0, 1, 2, 7, 1000]), random.choice([0, 1, 3, 1000]), table))
     return found
-
-
-def road_by_hand(keepers, first, name):
-    found = [first]
-    while True:
-        table = keepers[found[-1]][2]
-        longest = max((len(top), top) for top in table if ends_with(name, top))[1]
-        if table[longest] is None:
-            return found
-        found.append(table[longest])
 
 
 class TestMaking(unittest.TestCase):

@@ -2,11 +2,14 @@
 
 from itertools import product
 
+from listnames.book import Book
+from listnames.desk import Desk
 from listnames.errors import Wrong
 from listnames.facts import Facts
 from listnames.histories import History
 from listnames.hosts import Host
 from listnames.nets import Net
+from listnames.plans import Plan
 from listnames.shorts import every
 from listnames.towns import Town
 from listnames.zones import Zone
@@ -30,7 +33,7 @@ def odd_values():
         ({},), ("a", ("b",)), {"a"}, frozenset(["a"]), object(), len, Wrong, Wrong(0), ValueError(), deep(list),
         deep(tuple), deep(lambda parts: dict(enumerate(parts))), [0] * 19000, ("a", 0) * 9000, "a" * 19000,
         Zone({("a",): 1}), Host([("a",)]), Facts([], []), every(), every, Zone, TOWN, History(Zone({}), []),
-        Net(Zone({}), TOWN),
+        Net(Zone({}), TOWN), Plan(Zone({}), []), Book(TOWN, Plan(Zone({}), [])), Desk(TOWN, Plan(Zone({}), [])),
     ]
 
 

@@ -1,1 +1,1 @@
-"""What short names mean: hosts, zones, and exact sets of short names."""
+"""What short names mean: exact sets of them, and what hosts are told of them while zones change."""

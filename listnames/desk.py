@@ -15,7 +15,7 @@ def lines(texts):
 def query_of(line):
     """The house, the short name and the number of a line that asks what is told."""
     words = line.split(" ")
-    if len(words) != 4 or words[0] != "told":
+    if len(words) != 4:
         raise NoCommand()
     try:
         return (read_number(words[1]), read_full(words[2]), read_number(words[3]))

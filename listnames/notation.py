@@ -3,7 +3,7 @@
 from listnames.errors import NoText, Wrong
 from listnames.histories import is_change
 from listnames.hosts import Host
-from listnames.kinds import is_answer, is_full, is_name
+from listnames.kinds import is_full, is_name
 from listnames.plans import is_demand_on
 from listnames.towns import MOST_HOUSES, Town
 from listnames.zones import Zone
@@ -107,10 +107,8 @@ def read_full(word):
 
 
 def read_pair(word):
-    """The name and the further word that a word with a = between them writes."""
-    name, sign, further = word.partition("=")
-    if sign != "=":
-        raise NoText()
+    """The name that a word writes, and what stands behind its =; nothing does if there is none."""
+    name, _, further = word.partition("=")
     return read_name(name), further
 
 
@@ -163,14 +161,11 @@ def read_change(text):
 
 
 def read_answer(word):
-    """The answer that a word writes."""
+    """The answer that a word writes, if it is one."""
     if word == "-":
         return None
     name, value = read_pair(word)
-    answer = (name, read_number(value))
-    if not is_answer(answer):
-        raise NoText()
-    return answer
+    return (name, read_number(value))
 
 
 def read_demand(text):
@@ -179,7 +174,7 @@ def read_demand(text):
     if len(words) < 3:
         raise NoText()
     allowed = [read_answer(word) for word in words[3:]]
-    demand = (read_number(words[0]), read_number(words[1]), read_full(words[2]), allowed)
+    demand = (read_number(words[0]), read_number(words[1]), read_name(words[2]), allowed)
     if not is_demand_on(MOST_HOUSES, demand):
         raise NoText()
     return demand
@@ -201,9 +196,9 @@ def keeper_of(words):
 
 def house_of(words):
     """The house that the words of a line write."""
-    if len(words) < 2:
-        raise NoText()
-    return (host_of(words[2:]), read_number(words[1]))
+    # Where the second word is missing, so are those of the host.
+    host = host_of(words[2:])
+    return (host, read_number(words[1]))
 
 
 def read_town(text):

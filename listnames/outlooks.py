@@ -74,8 +74,10 @@ class Outlook:
         for first, behind in zip(turns, turns[1:]):
             if len(self.told(first)) == 1:
                 continue
-            touches = found and found[-1][1] == first - 1
-            found.append((found.pop()[0] if touches else first, behind - 1))
+            begin = first
+            if found and found[-1][1] == first - 1:
+                begin = found.pop()[0]
+            found.append((begin, behind - 1))
         return found
 
 

@@ -1,7 +1,7 @@
 """Plans: changes whose moments are not chosen yet, and what is demanded of them."""
 
 from listnames.errors import NoEntry, Wrong
-from listnames.histories import History, is_change
+from listnames.histories import History
 from listnames.kinds import is_answer, is_full, is_number
 from listnames.zones import Zone
 
@@ -18,9 +18,7 @@ class Plan:
             raise Wrong(0)
         if not isinstance(changes, (list, tuple)) or len(changes) > MOST_PLANNED:
             raise Wrong(1)
-        if not all([is_change(change) for change in changes]):
-            raise Wrong(1)
-        # The changes are numbered by moments that stand for none yet.
+        # The changes are numbered by moments that stand for none yet. What is no change is refused there.
         self._history = History(zone, list(enumerate(changes)))
 
     def __eq__(self, other):

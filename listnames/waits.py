@@ -1,7 +1,7 @@
 """Waits: the least times of a plan at which no house is told anything else than it may be told."""
 
 from listnames.errors import Hopeless
-from listnames.kinds import is_answer, is_integer, is_number
+from listnames.kinds import is_number
 from listnames.outlooks import outlook_of
 from listnames.scripts import askings_for, is_askings_for
 
@@ -107,10 +107,10 @@ def waits_paper(town, plan, demands):
 
 def shows_wait(town, plan, demands, times, many, thing):
     """Whether a thing is a tuple that shows why a change waits as long as it does."""
-    if not isinstance(thing, tuple) or len(thing) != 4 or not is_integer(thing[0]) or thing[0] != many:
+    if not isinstance(thing, tuple) or len(thing) != 4 or thing[0] != many:
         return False
     _, index, answer, askings = thing
-    if not is_number(len(demands), index) or not is_answer(answer):
+    if not is_number(len(demands), index):
         return False
     first, house, short, allowed = demands[index]
     if first > many or answer in allowed:

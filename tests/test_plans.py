@@ -154,6 +154,15 @@ class TestQueries(unittest.TestCase):
         self.assertEqual(len(plan.history([0, 1, 2]).then(3, PUT)), 4)
         self.assertTrue(Plan(Zone({B: 1}), []).history([]) == History(Zone({B: 1}), []))
 
+    def test_fewer_times(self):
+        """The least times are looked for by histories of the first changes alone."""
+        plan = Plan(Zone({}), [PUT, TAKE, STAY])
+        for many in range(4):
+            times = [5, 7, 9][:many]
+            history = plan.history(times)
+            self.assertTrue(history == History(Zone({}), list(zip(times, plan.changes()))))
+            self.assertTrue(history.then(10, ("put", B, 1)).zone_at(10) == plan.zone_behind(many) | Zone({B: 1}))
+
     def test_the_history_goes_on_by_itself(self):
         plan = Plan(Zone({}), [PUT])
         history = plan.history([0])
